@@ -93,3 +93,7 @@ def first_uncovered(goals, pieces):
         if not any([number in piece.covered for piece in pieces]):
             return number
     return -1
+
+
+def is_exact(goals, pieces):
+    return first_uncovered(goals, pieces) == -1

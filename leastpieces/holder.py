@@ -1,11 +1,21 @@
 """The object that holds a list, or none, and answers the calls."""
 
-from leastpieces.family import family_up_to, first_uncovered, goals_of, used_pieces
+from leastpieces.apart import greatest_apart
+from leastpieces.choices import FEWEST_BYTES, FEWEST_PIECES, greedy_set, least_set
+from leastpieces.family import family_up_to, first_uncovered, goals_of, is_exact, used_pieces
 from leastpieces.lists import Fault, read_list
 
 NOT_REFUSED = 0
 MOST_LENGTH = 4
 MOST_GOALS = 9
+
+
+def is_piece(pieces, number):
+    return number >= 0 and number < len(pieces)
+
+
+def told_choice(choice):
+    return [choice.size, len(choice.numbers)] + choice.numbers
 
 
 class Holder:
@@ -40,11 +50,52 @@ class Holder:
         if refused != NOT_REFUSED:
             return [refused]
         pieces = family_up_to(self.listed, longest)
-        if number < 0 or number >= len(pieces):
+        if not is_piece(pieces, number):
             return [-2]
         chunk = [ord(sign) for sign in pieces[number].chunk]
         covered = pieces[number].covered
         return [len(chunk)] + chunk + [len(covered)] + covered
+
+    def least(self, longest, kind):
+        refused = self.refusal(longest)
+        if refused != NOT_REFUSED:
+            return [refused]
+        if kind != FEWEST_PIECES and kind != FEWEST_BYTES:
+            return [-4]
+        goals = goals_of(self.listed)
+        pieces = family_up_to(self.listed, longest)
+        if not is_exact(goals, pieces):
+            return [0] + self.uncovered(pieces)
+        return [1] + told_choice(least_set(pieces, len(goals), kind))
+
+    def greedy(self, longest):
+        refused = self.refusal(longest)
+        if refused != NOT_REFUSED:
+            return [refused]
+        pieces = family_up_to(self.listed, longest)
+        if not is_exact(goals_of(self.listed), pieces):
+            return [0] + self.uncovered(pieces)
+        return [1] + told_choice(greedy_set(pieces))
+
+    def bound(self, longest):
+        refused = self.refusal(longest)
+        if refused != NOT_REFUSED:
+            return [refused]
+        goals = goals_of(self.listed)
+        apart = greatest_apart(family_up_to(self.listed, longest), len(goals))
+        return [len(apart)] + apart
+
+    def check(self, longest, numbers):
+        refused = self.refusal(longest)
+        if refused != NOT_REFUSED:
+            return [refused]
+        pieces = family_up_to(self.listed, longest)
+        if not all([is_piece(pieces, number) for number in numbers]):
+            return [-4]
+        chosen = [pieces[number] for number in numbers]
+        if not is_exact(goals_of(self.listed), chosen):
+            return [0] + self.uncovered(chosen)
+        return [1, len(numbers)]
 
     def refusal(self, longest):
         if self.listed is None:

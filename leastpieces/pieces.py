@@ -6,6 +6,10 @@ LOAD = 0
 GOALS = 1
 FAMILY = 2
 PIECE = 3
+LEAST = 4
+GREEDY = 5
+BOUND = 6
+CHECK = 7
 
 
 class UnknownCall(ValueError):
@@ -16,11 +20,13 @@ def call_end(calls, start):
     call = calls[start]
     if call == LOAD:
         return start + 2 + calls[start + 1]
+    if call == CHECK:
+        return start + 3 + calls[start + 2]
     if call == GOALS:
         return start + 1
-    if call == FAMILY:
+    if call in (FAMILY, GREEDY, BOUND):
         return start + 2
-    if call == PIECE:
+    if call in (PIECE, LEAST):
         return start + 3
     raise UnknownCall(f"no such call: {call}")
 
@@ -32,7 +38,15 @@ def answer_call(holder, call):
         return holder.goals()
     if call[0] == FAMILY:
         return holder.family(call[1])
-    return holder.piece(call[1], call[2])
+    if call[0] == PIECE:
+        return holder.piece(call[1], call[2])
+    if call[0] == LEAST:
+        return holder.least(call[1], call[2])
+    if call[0] == GREEDY:
+        return holder.greedy(call[1])
+    if call[0] == BOUND:
+        return holder.bound(call[1])
+    return holder.check(call[1], call[3:])
 
 
 def answers(calls):

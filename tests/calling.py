@@ -3,6 +3,10 @@
 from leastpieces.pieces import answers
 
 WORKED = "margins 2 2 ; word ta-ble ; word ca-ble ; word stab-le ;"
+NINE = "margins 0 0 ; word a-b-c-d-e-f-g-h-i-j ;"
+TEN = "margins 0 0 ; word a-b-c-d-e-f-g-h-i-j ; word k-l ;"
+# No piece of at most four letters tells where the last two words are parted.
+NOT_ALL = "margins 0 0 ; word a-b ; word yyyyy-yyyyyy ; word zzzzz-zzzzzz ;"
 GOALS = [1]
 HIGHEST = 10 ** 18
 
@@ -19,6 +23,22 @@ def family(m):
 
 def piece(m, i):
     return [3, m, i]
+
+
+def least(m, k):
+    return [4, m, k]
+
+
+def greedy(m):
+    return [5, m]
+
+
+def bound(m):
+    return [6, m]
+
+
+def check(m, numbers):
+    return [7, m, len(numbers)] + list(numbers)
 
 
 def ask(*calls):
@@ -60,3 +80,11 @@ def chunks_of(text, m):
             assert told[size + 1] == len(told[size + 2:])
             found.append(("".join(map(chr, told[1:size + 1])), told[size + 2:]))
     return found
+
+
+def named(text, m, call):
+    """The set that the call answers: its bytes, and its pieces' chunks."""
+    told = held(text, call)[0]
+    assert told[0] == 1 and told[2] == len(told[3:]), told
+    chunks = [chunk for chunk, covered in chunks_of(text, m)]
+    return told[1], [chunks[number] for number in told[3:]]

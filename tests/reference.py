@@ -1,9 +1,10 @@
-"""The document's words on parting and pieces, once more and in another way.
+"""The document's words on parting, pieces and least sets, once more and in another way.
 
 Words and patterns are texts; a word stands between two points, so a pattern's
 own points are signs to be found like any other.
 """
 
+import itertools
 import re
 
 
@@ -99,3 +100,51 @@ def first_uncovered(margins, words, m):
         if number not in covered:
             return list(goal)
     return [-1, 0]
+
+
+def size_of(chunks):
+    return sum(map(len, chunks))
+
+
+def tellings(taken, count, covered=frozenset()):
+    """Each way to cover all goals, the lowest one that is not covered yet always first, in order."""
+    missing = [goal for goal in range(count) if goal not in covered]
+    if not missing:
+        yield []
+        return
+    for chunk, goals_covered in taken:
+        if missing[0] in goals_covered:
+            for rest in tellings(taken, count, covered.union(goals_covered)):
+                yield [chunk] + rest
+
+
+def least(pieces, count, kind):
+    """The chunks of the least set, as it is told; min and max take the first of several."""
+    covers = dict(pieces)
+    taken = [(chunk, covers[chunk]) for chunk in used(pieces)]
+    if kind == 0:
+        return min(tellings(taken, count), key=lambda chunks: (len(chunks), size_of(chunks)))
+    return min(tellings(taken, count), key=lambda chunks: (size_of(chunks), len(chunks)))
+
+
+def greedy(pieces):
+    """The chunks that come greedily."""
+    left = {goal for chunk, covered in pieces for goal in covered}
+    chunks = []
+    while left:
+        chunk, covered = max(pieces, key=lambda piece: len(left.intersection(piece[1])))
+        chunks.append(chunk)
+        left = left.difference(covered)
+    return chunks
+
+
+def bound(pieces, count):
+    """The greatest set of goals that are apart: a row of flags a set, goal 0 in front."""
+    rows = itertools.product((False, True), repeat=count)
+    apart = [row for row in rows if all(sum(row[goal] for goal in covered) <= 1 for chunk, covered in pieces)]
+    return [goal for goal, flag in enumerate(max(apart, key=sum)) if flag]
+
+
+def is_exact(chosen, count):
+    """Whether these pieces, chunks with the goals that they cover, cover all goals."""
+    return {goal for chunk, covered in chosen for goal in covered} == set(range(count))

@@ -2,12 +2,10 @@
 
 import unittest
 
-from leastpieces.family import Piece, used_pieces
+from leastpieces.family import used_pieces
 from tests import reference
-from tests.calling import GOALS, HIGHEST, WORKED, ask, chunks_of, family, held, load
-
-NINE = "margins 0 0 ; word a-b-c-d-e-f-g-h-i-j ;"
-TEN = "margins 0 0 ; word a-b-c-d-e-f-g-h-i-j ; word k-l ;"
+from tests.calling import GOALS, HIGHEST, NINE, TEN, WORKED, ask, chunks_of, family, held, load
+from tests.spelling import lists, pieces_of, text_of
 
 
 def names(text, m):
@@ -169,44 +167,6 @@ class AgainstTheWords(unittest.TestCase):
                     gaps = [gap for at, gap in goals if at == number]
                     self.assertEqual(reference.parted(margins, names(text, 4), word), gaps, text)
         self.assertGreater(exact, 10)
-
-
-def pieces_of(covers):
-    """Pieces with these letters, that cover these goals."""
-    pieces = []
-    for letters, covered in covers:
-        pieces.append(Piece(letters, 1, "", ""))
-        pieces[-1].covered = covered
-    return pieces
-
-
-def text_of(margins, words):
-    return f"margins {margins[0]} {margins[1]} ; " + " ".join(f"word {word} ;" for word in words)
-
-
-def lists():
-    """Lists with at most 9 goals, spelled from a number's digits, so that each run has the same."""
-    found = []
-    number = 12345
-    while len(found) < 60:
-        words = {}
-        for at in range(2 + len(found) % 4):
-            number = (number * 1103515245 + 12345) % 2147483648
-            word = spelled(number >> 8, 2 + (number >> 5) % 6)
-            words.setdefault(word.replace("-", ""), word)
-        margins = (len(found) % 3, len(found) // 3 % 3)
-        if len(reference.goals(margins, list(words.values()))) <= 9:
-            found.append((margins, list(words.values())))
-    return found
-
-
-def spelled(number, letters):
-    word = ""
-    for at in range(letters):
-        word += "abc"[number % 3]
-        number //= 3
-        word += "-" if number % 3 == 0 and at < letters - 1 else ""
-    return word
 
 
 if __name__ == "__main__":

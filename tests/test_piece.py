@@ -2,9 +2,7 @@
 
 import unittest
 
-from tests.calling import GOALS, HIGHEST, WORKED, ask, chunks_of, held, load, piece
-
-TEN = "margins 0 0 ; word a-b-c-d-e-f-g-h-i-j ; word k-l ;"
+from tests.calling import GOALS, HIGHEST, TEN, WORKED, ask, chunks_of, held, load, piece
 
 
 class Refusals(unittest.TestCase):
